@@ -1,0 +1,1 @@
+"""Latekinds: is it one of these, told by one comparison for ever, whatever kinds still come."""

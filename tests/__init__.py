@@ -1,0 +1,1 @@
+"""The tests of latekinds; `python3 -m unittest discover -s tests -t .` runs them."""

@@ -1,0 +1,44 @@
+import inspect
+import sys
+import unittest
+
+from latekinds.books import Book, beginning, beside, forebears, heirs, is_a, loaded, plain, reordered
+from latekinds.widths import all_widest, dealing, is_dealing, is_side_by_side, widest, width, widths
+from tests.helpers import deep, drawn_book, flat_book, grid_book, row_book
+
+# Far fewer calls than there are kinds in the books, so that no call can go down along a row.
+CALLS = 40
+
+
+def call_all(book):
+    """Calls all that is built of a book of 400 kinds."""
+    last = len(book.parents) - 1
+    is_a(book, last, 0), forebears(book, last), heirs(book, 0), loaded(book, (last,)), beginning(book, last)
+    plain(book), reordered(book, tuple(range(last + 1))), beside(book, book), Book(book.parents)
+    width(book), widest(book), widths(book), is_dealing(book, dealing(book)), is_side_by_side(book, widest(book))
+
+
+class Depth(unittest.TestCase):
+    def few_calls(self, action):
+        before = sys.getrecursionlimit()
+        sys.setrecursionlimit(len(inspect.stack(0)) + CALLS)
+        try:
+            action()
+        finally:
+            sys.setrecursionlimit(before)
+
+    def test_great_books_in_few_calls(self):
+        for book in (row_book(400), flat_book(400), grid_book(20, 20), drawn_book(8, 400, 3, 30)):
+            self.few_calls(lambda: call_all(book))
+        for book in (row_book(400), flat_book(400), grid_book(20, 20)):
+            self.few_calls(lambda: all_widest(book))
+
+    def test_deep_things_in_few_calls(self):
+        book = row_book(3)
+        for wrap in (lambda x: (x,), lambda x: [x], lambda x: (0, x)):
+            thing = deep(40, wrap, 0)
+            self.few_calls(lambda: (is_dealing(book, thing), is_side_by_side(book, thing)))
+
+
+if __name__ == "__main__":
+    unittest.main()

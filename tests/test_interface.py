@@ -1,0 +1,48 @@
+import ast
+import unittest
+from pathlib import Path
+
+PACKAGE = Path(__file__).resolve().parent.parent / "latekinds"
+
+# What has landed, as the document's interface lists it: functions with their arguments, classes with their methods.
+FUNCTIONS = {
+    "books": (
+        "is_a(book, x, p)", "forebears(book, x)", "heirs(book, x)", "loaded(book, parents)", "beginning(book, many)",
+        "plain(book)", "reordered(book, order)", "beside(one_book, other_book)",
+    ),
+    "widths": (
+        "width(book)", "widest(book)", "dealing(book)", "widths(book)", "is_dealing(book, thing)",
+        "is_side_by_side(book, thing)", "all_widest(book)",
+    ),
+}
+METHODS = {("books", "Book"): ("__init__(self, parents)", "__eq__(self, other)")}
+
+
+def told(body):
+    """The functions that stand right in a body, as the interface writes them."""
+    return [
+        f"{part.name}({', '.join(one.arg for one in part.args.args)})" for part in body
+        if isinstance(part, ast.FunctionDef)
+    ]
+
+
+def body_of(name):
+    return ast.parse((PACKAGE / f"{name}.py").read_text()).body
+
+
+class Interface(unittest.TestCase):
+    def test_functions(self):
+        for name, functions in FUNCTIONS.items():
+            for function in functions:
+                self.assertIn(function, told(body_of(name)))
+
+    def test_classes(self):
+        for (name, shape), methods in METHODS.items():
+            found = [part for part in body_of(name) if isinstance(part, ast.ClassDef) and part.name == shape]
+            self.assertEqual(len(found), 1)
+            for method in methods:
+                self.assertIn(method, told(found[0].body))
+
+
+if __name__ == "__main__":
+    unittest.main()
