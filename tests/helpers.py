@@ -136,3 +136,69 @@ def odd_tuples():
 def odd_numbers():
     """Integers that stand for nothing in books of a few hundred kinds."""
     return [-1, -2, 500, 10 ** 9, 10 ** 79, -(10 ** 79)]
+
+
+def drawn_tree(seed, many, roots=0):
+    """A book drawn by a seed in which each kind has at most one parent; so many in ten begin anew."""
+    draw = Random(seed)
+    rows = [() if kind == 0 or draw.randrange(10) < roots else (draw.randrange(kind),) for kind in range(many)]
+    return Book(tuple(rows))
+
+
+def drawn_dealing(book, seed):
+    """A dealing drawn by a seed, its rows in any order."""
+    draw = Random(seed)
+    ups = walked_all(book)
+    rows = []
+    for kind in range(len(ups)):
+        fitting = [row for row in rows if row[-1] in ups[kind]]
+        if fitting and draw.randrange(4):
+            draw.choice(fitting).append(kind)
+        else:
+            rows.append([kind])
+    draw.shuffle(rows)
+    return tuple(tuple(row) for row in rows)
+
+
+def drawn_scheme(seed, many):
+    """A scheme, mostly a wrong one: slots with gaps or of 72 digits, numbers of either sign, rows of any length."""
+    draw = Random(seed)
+    great = [10 ** 71 + 3, 10 ** 72 - 1, -(10 ** 71)]
+    scheme = []
+    for _ in range(many):
+        slot = draw.choice([draw.randrange(6), draw.randrange(6), draw.randrange(40), great[draw.randrange(2)]])
+        number = draw.choice([draw.randint(-3, 3), draw.randint(-3, 3), draw.choice(great)])
+        row = [draw.choice([draw.randint(-3, 3), draw.choice(great)]) for _ in range(draw.randrange(9))]
+        scheme.append((slot, number, tuple(row)))
+    return tuple(scheme)
+
+
+def slow_says(scheme, x, p):
+    """Whether the scheme says that x is a p, by the words of the document."""
+    slot, number = scheme[p][0], scheme[p][1]
+    entries = dict(enumerate(scheme[x][2]))
+    return slot in entries and entries[slot] >= number
+
+
+def no_schemes():
+    """Things that are no scheme for any book."""
+    right = (0, 1, (1,))
+    things = odd_things() + [thing for thing in odd_tuples() if thing] + odd_numbers() + [0]
+    things = [thing for thing in things if thing != ()]
+    for item in (
+        (True, 1, (1,)), (False, 1, (1,)), (-1, 1, (1,)), (-(10 ** 71), 1, (1,)), ("0", 1, (1,)), (None, 1, (1,)),
+        ((0,), 1, (1,)), ([0], 1, (1,)), (0, True, (1,)), (0, "1", (1,)), (0, None, (1,)), (0, (1,), (1,)),
+        (0, 1, [1]), (0, 1, None), (0, 1, 1), (0, 1, "1"), (0, 1, b"1"), (0, 1, {0: 1}), (0, 1, (True,)),
+        (0, 1, (1, False)), (0, 1, (1, None)), (0, 1, (1, "1")), (0, 1, ((1,),)), (0, 1, (1, [])), (0, 1), (0, 1, (1,), 1),
+        (0, 1, (1,), ()), [0, 1, (1,)], (1,), (), "01a", {0: 0, 1: 1, 2: (1,)}, (0, 1, {}), (0, {}, ()), ({}, 1, ()),
+        (0, 1, range(1)), (0, 1, deep(37, lambda x: (x,), 1)), (0, deep(37, lambda x: (x,), 1), ()),
+        (deep(37, lambda x: [x], 1), 1, ()), Book(()), None, 0,
+    ):
+        things += [(item,), (right, item), (item, right), (right, right, item, right)]
+    things += [[right], [], list(range(3)), {0: right}, ((right,),), (right, [right]), iter((right,))]
+    return things
+
+
+def kinds_that_are_none(many):
+    """Things that are no kind among so many."""
+    return odd_things() + odd_tuples()[:60] + odd_numbers() + [many, many + 1, -many]

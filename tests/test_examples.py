@@ -1,6 +1,10 @@
 import unittest
 
 from latekinds.books import Book, heirs, is_a, plain
+from latekinds.loader import first_fit, is_beaten, led, most_loads
+from latekinds.orders import tree_placed
+from latekinds.rule import groups, placed, told_scheme
+from latekinds.schemes import first_wrong, says, scheme_of
 from latekinds.widths import widest, width, widths
 
 FORK = Book(((), (), (0, 1), (0,)))
@@ -17,6 +21,23 @@ class Examples(unittest.TestCase):
         self.assertEqual(width(THREE), 3)
         self.assertEqual(widest(FORK), (0, 1))
         self.assertEqual(widths(FORK), (0, 1, 2, 2, 2))
+
+    def test_e03(self):
+        self.assertIs(says(((0, 1, (1,)), (0, 2, (2,))), 1, 0), True)
+        self.assertIsNone(first_wrong(FORK, scheme_of(FORK, ((0, 2), (1,), (3,)))))
+
+    def test_e04(self):
+        self.assertEqual(placed(FORK), (0, 1, 2, 0))
+        self.assertEqual(groups(FORK), ((1,), (0, 2)))
+        self.assertEqual(told_scheme(FORK)[2], (2, 1, (1, 1, 1)))
+
+    def test_e05(self):
+        self.assertEqual(led(first_fit, FORK), ((0, 1, 0, 2), None))
+        self.assertEqual(most_loads(5), 88)
+        self.assertIs(is_beaten(first_fit, 2, FORK), True)
+
+    def test_e06(self):
+        self.assertEqual(tree_placed(Book(((), (0,), (0,), (1,)))), (0, 0, 1, 0))
 
 
 if __name__ == "__main__":

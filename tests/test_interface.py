@@ -14,6 +14,17 @@ FUNCTIONS = {
         "width(book)", "widest(book)", "dealing(book)", "widths(book)", "is_dealing(book, thing)",
         "is_side_by_side(book, thing)", "all_widest(book)",
     ),
+    "schemes": (
+        "says(scheme, x, p)", "is_scheme(book, thing)", "first_wrong(book, scheme)", "slots_of(scheme)",
+        "scheme_of(book, dealing)", "many_slots(scheme)",
+    ),
+    "rule": ("placed(book)", "groups(book)", "told_scheme(book)"),
+    "loader": (
+        "led(rule, book)", "told_rule(book, slots)", "first_fit(book, slots)", "most_loads(width)",
+        "most_loads_by_twos(width)", "beaten(rule, width)", "beaten_by_twos(rule, width)",
+        "is_beaten(rule, width, thing)", "is_beaten_by_twos(rule, width, thing)",
+    ),
+    "orders": ("tree_placed(book)", "best_order(book)", "worst_order(book)"),
 }
 METHODS = {("books", "Book"): ("__init__(self, parents)", "__eq__(self, other)")}
 
