@@ -2,9 +2,12 @@ import unittest
 
 from latekinds.books import Book, heirs, is_a, plain
 from latekinds.loader import first_fit, is_beaten, led, most_loads
+from latekinds.names import tree_names, web_names, web_says
+from latekinds.numbers import is_two_orders, two_orders
 from latekinds.orders import tree_placed
 from latekinds.rule import groups, placed, told_scheme
 from latekinds.schemes import first_wrong, says, scheme_of
+from latekinds.telling import common, meet
 from latekinds.widths import widest, width, widths
 
 FORK = Book(((), (), (0, 1), (0,)))
@@ -38,6 +41,19 @@ class Examples(unittest.TestCase):
 
     def test_e06(self):
         self.assertEqual(tree_placed(Book(((), (0,), (0,), (1,)))), (0, 0, 1, 0))
+
+    def test_e07(self):
+        self.assertEqual(web_names(FORK), ("", "0", "11", "100"))
+        self.assertIs(web_says("11", "0"), True)
+        self.assertEqual(tree_names(Book(((), (0,), (0,)))), ("", "0", "10"))
+
+    def test_e08(self):
+        self.assertIs(is_two_orders(FORK, ((0, 3, 1, 2), (1, 0, 2, 3))), True)
+        self.assertIsNone(two_orders(THREE))
+
+    def test_e09_what_rows_tell(self):
+        self.assertEqual(meet(told_scheme(FORK), 2, 3), (1, 0, 0))
+        self.assertEqual(common(told_scheme(FORK), 2, 3), (0,))
 
 
 if __name__ == "__main__":

@@ -25,6 +25,12 @@ FUNCTIONS = {
         "is_beaten(rule, width, thing)", "is_beaten_by_twos(rule, width, thing)",
     ),
     "orders": ("tree_placed(book)", "best_order(book)", "worst_order(book)"),
+    "names": (
+        "web_names(book)", "tree_names(book)", "web_says(name, other)", "tree_says(name, other)",
+        "broken(naming, teller, many)", "is_broken(naming, teller, many, thing)",
+    ),
+    "numbers": ("two_orders(book)", "forces(book)", "is_two_orders(book, thing)", "is_forces(book, thing)"),
+    "telling": ("lot_of(scheme, x)", "common(scheme, x, y)", "meet(scheme, x, y)"),
 }
 METHODS = {("books", "Book"): ("__init__(self, parents)", "__eq__(self, other)")}
 

@@ -61,8 +61,7 @@ def many_rules():
 
 def no_answers(slots):
     """Things that are right for no kind behind these slots."""
-    things = [-1, -2, len(set(slots)) + 1, 10 ** 79, -(10 ** 79), True, False, None, "0", (0,), [0], {}, b"\x00", Book(())]
-    return things
+    return [-1, -2, len(set(slots)) + 1, 10 ** 79, -(10 ** 79), True, False, None, "0", (0,), [0], {}, b"\x00"]
 
 
 def beats(rule, wide, book, most, parents):

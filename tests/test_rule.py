@@ -44,7 +44,8 @@ def groups_by_hand(book):
 
 
 def middle_books():
-    books = small_books() + drawn_books(40, 9) + drawn_books(40, 14, 2) + drawn_books(10, 30, 2) + drawn_books(10, 40, 5)
+    books = small_books() + drawn_books(40, 9) + drawn_books(40, 14, 2)
+    books += drawn_books(10, 30, 2) + drawn_books(10, 40, 5)
     books += [drawn_book(seed, 60, 2, reach) for seed in range(6) for reach in (3, 5, 8)]
     books += [drawn_tree(seed, 25, 2) for seed in range(6)]
     return books + [row_book(9), flat_book(12), grid_book(5, 6), rows_book(4, 1, 3, 2)]

@@ -17,7 +17,8 @@ GREAT = 10 ** 71 + 7
 
 
 def books():
-    return small_books()[::3] + drawn_books(12, 7) + drawn_books(6, 15, 2) + [row_book(6), flat_book(5), grid_book(3, 4)]
+    drawn = drawn_books(12, 7) + drawn_books(6, 15, 2)
+    return small_books()[::3] + drawn + [row_book(6), flat_book(5), grid_book(3, 4)]
 
 
 def slow_wrong(book, scheme):
