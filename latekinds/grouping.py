@@ -15,6 +15,15 @@ class Grouping:
         self.grouped = []
         self.ends = []
 
+    def copied(self):
+        """Another one of the same kinds that goes on apart."""
+        twin = Grouping()
+        twin.slots = list(self.slots)
+        twin.lasts = list(self.lasts)
+        twin.grouped = [list(group) for group in self.grouped]
+        twin.ends = list(self.ends)
+        return twin
+
     def take(self, above):
         """Gives the next kind a slot and tells it; `above` is the mask of all that this kind is."""
         kind = len(self.slots)
@@ -46,6 +55,13 @@ class Grouping:
         self.grouped.append([])
         self.ends.append(0)
         return at
+
+    def told_groups(self):
+        """The groups, from group 1 on, each by its slots.
+
+        The last one is never empty: it was begun for a slot, and goes without one only where a group behind gets it.
+        """
+        return tuple([tuple(sorted(group)) for group in self.grouped])
 
 
 def grouping_of(book):

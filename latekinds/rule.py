@@ -9,27 +9,27 @@ def placed(book):
 
 
 def groups(book):
-    """The groups, from group 1 on, each by its slots.
-
-    The last one is never empty: it was begun for a slot, and goes without one only where a group behind it gets it.
-    """
-    return tuple([tuple(sorted(group)) for group in grouping_of(book).grouped])
+    """The groups, from group 1 on, each by its slots."""
+    return grouping_of(book).told_groups()
 
 
 def told_scheme(book):
     """What the told rule gives: a slot, a number and a row for each kind."""
     grouping = Grouping()
-    many = []
     scheme = []
-    for kind, parents in enumerate(book.parents):
-        slot = grouping.take(book.above[kind])
-        if slot == len(many):
-            many.append(0)
-        many[slot] += 1
-        row = greatest([scheme[parent][2] for parent in parents], len(many))
-        row[slot] = many[slot]
-        scheme.append((slot, many[slot], tuple(row)))
+    for mask, parents in zip(book.above, book.parents):
+        grouping.take(mask)
+        scheme.append(last_triple(grouping, [scheme[parent][2] for parent in parents]))
     return tuple(scheme)
+
+
+def last_triple(grouping, rows):
+    """What the last kind is given; rows are those of its parents."""
+    slot = grouping.slots[-1]
+    number = grouping.slots.count(slot)
+    row = greatest(rows, len(grouping.lasts))
+    row[slot] = number
+    return slot, number, tuple(row)
 
 
 def greatest(rows, many):
