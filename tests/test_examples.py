@@ -1,13 +1,18 @@
 import unittest
 
 from latekinds.books import Book, heirs, is_a, plain
+from latekinds.clauses import never_met, parting
+from latekinds.fields import count_layings, laying, quarrels
 from latekinds.loader import first_fit, is_beaten, led, most_loads
+from latekinds.machines import laid
 from latekinds.names import tree_names, web_names, web_says
 from latekinds.numbers import is_two_orders, two_orders
 from latekinds.orders import tree_placed
+from latekinds.programs import run
 from latekinds.rule import groups, placed, told_scheme
 from latekinds.schemes import first_wrong, says, scheme_of
 from latekinds.telling import common, meet
+from latekinds.texts import book_text
 from latekinds.widths import widest, width, widths
 
 FORK = Book(((), (), (0, 1), (0,)))
@@ -51,9 +56,27 @@ class Examples(unittest.TestCase):
         self.assertIs(is_two_orders(FORK, ((0, 3, 1, 2), (1, 0, 2, 3))), True)
         self.assertIsNone(two_orders(THREE))
 
-    def test_e09_what_rows_tell(self):
+    def test_e09(self):
         self.assertEqual(meet(told_scheme(FORK), 2, 3), (1, 0, 0))
         self.assertEqual(common(told_scheme(FORK), 2, 3), (0,))
+        self.assertEqual(never_met(FORK, ((0, 5), (2, 6), (1, 7))), (1,))
+        self.assertEqual(parting(FORK, ((0, 5), (1, 7)), ((1, 7), (0, 5))), (2,))
+
+    def test_e10(self):
+        self.assertEqual(quarrels(THREE, (1, 1, 1, 0, 0, 0)), [(0, 1), (0, 2), (1, 2)])
+        self.assertIsNone(laying(THREE, (1, 1, 1, 0, 0, 0), 2))
+        self.assertEqual(count_layings(FORK, (1, 2, 0, 3)), 96)
+
+    def test_e11(self):
+        self.assertEqual(book_text(FORK), "-\n-\n0 1\n0\n")
+
+    def test_e12(self):
+        program = (
+            ("load", 0, (), 1), ("load", 1, (0,), 0), ("make", 2, 1), ("set", 3, 7), ("write", 2, 0, 0, 3),
+            ("read", 4, 2, 0, 0), ("show", 4), ("is", 2, 0, 9), ("show", 0),
+        )
+        self.assertEqual(run(program, 50), ([7], ("end",)))
+        self.assertEqual(laid(FORK, (1, 2, 0, 3)), (((0, 0),), ((1, 0), (1, 1)), (), ((2, 0), (2, 1), (2, 2))))
 
 
 if __name__ == "__main__":

@@ -4,7 +4,7 @@ from pathlib import Path
 
 PACKAGE = Path(__file__).resolve().parent.parent / "latekinds"
 
-# What has landed, as the document's interface lists it: functions with their arguments, classes with their methods.
+# What the document's interface lists: functions with their arguments, classes with their methods.
 FUNCTIONS = {
     "books": (
         "is_a(book, x, p)", "forebears(book, x)", "heirs(book, x)", "loaded(book, parents)", "beginning(book, many)",
@@ -31,8 +31,31 @@ FUNCTIONS = {
     ),
     "numbers": ("two_orders(book)", "forces(book)", "is_two_orders(book, thing)", "is_forces(book, thing)"),
     "telling": ("lot_of(scheme, x)", "common(scheme, x, y)", "meet(scheme, x, y)"),
+    "clauses": (
+        "label_of(book, clauses, x)", "never_met(book, clauses)", "alike(book, one, other)", "parting(book, one, other)",
+    ),
+    "fields": (
+        "is_laying(book, fields, arms, thing)", "is_hues(book, fields, arms, thing)", "is_odd_ring(book, fields, thing)",
+        "first_hole(book, fields, laying)", "quarrels(book, fields)", "hues(book, fields, arms)",
+        "laying(book, fields, arms)", "odd_ring(book, fields)", "count_layings(book, fields)",
+    ),
+    "texts": ("book_text(book)", "scheme_text(scheme)", "read_book(text)", "read_scheme(text)"),
+    "programs": ("is_program(thing)", "check_rows(thing)", "run(program, most)"),
+    "machines": ("laid(book, fields)",),
+    "images": ("image(machine)", "restored(program, text)", "recovered(program, older, newer)"),
 }
-METHODS = {("books", "Book"): ("__init__(self, parents)", "__eq__(self, other)")}
+METHODS = {
+    ("books", "Book"): ("__init__(self, parents)", "__eq__(self, other)"),
+    ("runtimes", "Runtime"): (
+        "__init__(self)", "load(self, parents)", "ask(self, x, p)", "given(self, x)", "book(self)", "groups(self)",
+        "back(self)", "many(self)", "copy(self)", "trying(self, action)",
+    ),
+    ("machines", "Machine"): (
+        "__init__(self, program)", "step(self)", "go(self, most)", "shown(self)", "end(self)",
+        "load(self, parents, fields)", "kinds(self)", "given(self, kind)", "memory(self, o)", "back(self)", "copy(self)",
+    ),
+    ("desks", "Desk"): ("__init__(self)", "tell(self, line)", "undoable(self)"),
+}
 
 
 def told(body):

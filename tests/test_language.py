@@ -107,9 +107,51 @@ class Language(unittest.TestCase):
                     self.assertTrue(at == 0 and isinstance(node.value, ast.Constant), where)
                 elif isinstance(node, ast.Assign):
                     self.assertTrue(len(node.targets) == 1 and isinstance(node.targets[0], ast.Name), where)
-                    ast.literal_eval(node.value)
+                    self.plain_value(node.value, {part.name for part in tree_of(path).body[:at] if hasattr(part, "name")})
                 else:
                     self.assertIsInstance(node, (ast.ImportFrom, ast.FunctionDef, ast.ClassDef), where)
+
+    def plain_value(self, value, functions):
+        """Integers, strings, and tuples and dicts of these and of functions that are defined above."""
+        if isinstance(value, ast.Name):
+            self.assertIn(value.id, functions)
+        elif isinstance(value, (ast.Tuple, ast.Dict)):
+            for part in value.elts if isinstance(value, ast.Tuple) else value.keys + value.values:
+                self.assertNotIsInstance(part, (ast.Dict, ast.List))
+                self.plain_value(part, functions)
+        elif isinstance(value, ast.BinOp):
+            self.assertIsInstance(value.op, ast.Pow)
+            self.plain_value(value.left, functions)
+            self.plain_value(value.right, functions)
+        else:
+            self.assertIsInstance(value, ast.Constant)
+
+    def test_imports_and_classes_are_not_hidden(self):
+        for path in FILES:
+            body = tree_of(path).body
+            taken = {alias.name for node in body if isinstance(node, ast.ImportFrom) for alias in node.names}
+            taken |= {node.name for node in body if isinstance(node, ast.ClassDef)}
+            for node in ast.walk(tree_of(path)):
+                if isinstance(node, ast.arg):
+                    self.assertNotIn(node.arg, taken, f"{path.name}:{node.lineno}")
+                if isinstance(node, ast.Name) and isinstance(node.ctx, ast.Store):
+                    self.assertNotIn(node.id, taken, f"{path.name}:{node.lineno}")
+
+    def test_methods_and_attributes(self):
+        methods, attributes = set(), set()
+        for _, node in nodes(ast.ClassDef):
+            methods |= {part.name for part in node.body if isinstance(part, ast.FunctionDef)}
+        for where, node in nodes(ast.Attribute):
+            if isinstance(node.ctx, ast.Store):
+                attributes.add(node.attr)
+                self.assertIsInstance(node.value, ast.Name, where)
+        self.assertEqual(methods & attributes, set())
+        built_in = {name for thing in ("", 0, [], {}, set(), b"") for name in dir(thing) if not name.startswith("__")}
+        self.assertEqual(methods & built_in, {"copy"})
+        self.assertEqual(attributes & built_in, set())
+        for where, node in nodes(ast.Attribute):
+            if isinstance(node.ctx, ast.Load):
+                self.assertIn(node.attr, methods | attributes | METHODS, where)
 
     def test_nodes(self):
         for where, node in nodes(BARRED_NODES):
